@@ -1,0 +1,1 @@
+"""Pagefeeder: a book's sheets taken in by a feeder."""
