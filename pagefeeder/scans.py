@@ -1,9 +1,10 @@
 """Books, scans and runs."""
 
-from pagefeeder.errors import BadBook, BadScan
+from pagefeeder.errors import BadBook, BadRun, BadScan
 
 MOST_SHEETS = 30
 MOST_SCANS = 20
+MOST_RUNS = 12
 
 
 def front_page(sheet):
@@ -47,3 +48,15 @@ def check_run(sheets, run):
     for number, scan in enumerate(run):
         if number == MOST_SCANS or not is_scan(sheets, scan):
             raise BadScan(number)
+
+
+def is_run(sheets, run):
+    """Whether a list of tuples of numbers and Nones is a run of the book."""
+    return len(run) <= MOST_SCANS and all([is_scan(sheets, scan) for scan in run])
+
+
+def check_runs(sheets, runs):
+    """Refuse the first of some runs that is none, or is one too many."""
+    for number, run in enumerate(runs):
+        if number == MOST_RUNS or not is_run(sheets, run):
+            raise BadRun(number)

@@ -1,4 +1,4 @@
-"""Readings told one by one, straight from the document's words, to test against."""
+"""What the document tells, told one by one straight from its words, to test against."""
 
 import functools
 import itertools
@@ -183,3 +183,144 @@ def long_reading(sheets, many, choice):
         places.append((first, last))
         sheet = last + 1
     return places
+
+
+def shown_of(sheets, rule, runs):
+    """For each page (run, scan) of all scans that surely show it, by all readings."""
+    table = [[] for _ in range(2 * sheets)]
+    for number, run in enumerate(runs):
+        readings = readings_by_rule(sheets, run)[rule]
+        for at in range(len(run)):
+            for side in (0, 1):
+                found = {pages(places[at])[side] for places in readings}
+                if len(found) == 1:
+                    table[found.pop()].append((number, at))
+    return table
+
+
+def gaps_of(counts):
+    """All (first, last) of pages that none shows, with none such ahead and none behind."""
+    found = []
+    for first in range(len(counts)):
+        for last in range(first, len(counts)):
+            inside = not any(counts[first : last + 1])
+            begins = first == 0 or counts[first - 1] > 0
+            ends = last == len(counts) - 1 or counts[last + 1] > 0
+            if inside and begins and ends:
+                found.append((first, last))
+    return found
+
+
+def wanted_of(counts):
+    """The sheets of which a page isn't shown."""
+    return [sheet for sheet in range(len(counts) // 2) if 0 in counts[2 * sheet : 2 * sheet + 2]]
+
+
+def all_layings(wanted, size, many):
+    """All ways to lay so many stacks that hold every wanted sheet, no sheet in two of them."""
+    ends = [(first, last) for first in wanted for last in wanted if first <= last < first + size]
+    for laid in itertools.combinations(sorted(ends), many):
+        held = [sheet for first, last in laid for sheet in range(first, last + 1)]
+        if len(held) == len(set(held)) and set(wanted) <= set(held):
+            yield list(laid)
+
+
+def stacks_of(counts, size):
+    """Of the layings with the fewest stacks the one with the longest first, then second, and so on."""
+    wanted = wanted_of(counts)
+    for many in range(len(wanted) + 1):
+        layings = list(all_layings(wanted, size, many))
+        if layings:
+            return max(layings, key=lambda laid: [last - first for first, last in laid])
+
+
+FRESH = ((), (), ())
+
+
+def model_step(sheets, blind, state, step):
+    """(state behind it, what it tells or the name of its refusal): a feeder without a Feeder.
+
+    A state is (sheets that wait, places of the run that goes on, places of each run that is over).
+    """
+    waiting, going, over = state
+    word = step[0]
+    if word == "put":
+        low, high = step[1:]
+        if low < 0 or high >= sheets or low > high:
+            return state, "BadStack"
+        if waiting:
+            return state, "Busy"
+        return (tuple(range(low, high + 1)), (), over), None
+    many = {"feed": 1, "twice": 2, "slip": 1, "jam": max(1, len(waiting))}[word]
+    if len(waiting) < many:
+        return state, "NoSheet"
+    told = None
+    if word in ("feed", "twice"):
+        place = (waiting[0], waiting[many - 1])
+        going += (place,)
+        told = model_scan(blind, place)
+    waiting = waiting[many:]
+    if not waiting:
+        over += (going,) if going else ()
+        going = ()
+    return (waiting, going, over), told
+
+
+def model_scan(blind, place):
+    return tuple(None if page in blind else page for page in pages(place))
+
+
+def model_tells(blind, state):
+    """What waits, run and runs tell in a state."""
+    waiting, going, over = state
+    return (
+        (waiting[0], waiting[-1]) if waiting else None,
+        [model_scan(blind, place) for place in going],
+        [[model_scan(blind, place) for place in places] for places in over],
+    )
+
+
+def feeder_tells(feeder):
+    return (feeder.waits(), feeder.run(), feeder.runs())
+
+
+def call_step(feeder, step):
+    """Do a step of a Feeder by its own method."""
+    return getattr(feeder, step[0])(*step[1:])
+
+
+def random_blind(choice, sheets, part):
+    return tuple(page for page in range(2 * sheets) if choice.random() < part)
+
+
+def careful_steps(choice, low, high, rule):
+    """Steps of one run that keep a rule; slips ahead of the first scan are free, those behind aren't asked for."""
+    steps = [("put", low, high)]
+    doubles, slips = rule
+    left = high - low + 1
+    scanned = False
+    while left:
+        words = ["feed", "feed", "feed"]
+        if doubles and left > 1:
+            words.append("twice")
+        if slips or not scanned:
+            words.append("slip")
+        if choice.random() < 0.05:
+            words.append("jam")
+        word = choice.choice(words)
+        steps.append((word,))
+        scanned = scanned or word in ("feed", "twice")
+        doubles -= word == "twice"
+        slips -= word == "slip" and scanned
+        left -= {"feed": 1, "twice": 2, "slip": 1, "jam": left}[word]
+    return steps
+
+
+def careful_play(choice, sheets, rule, most_runs, most_sheets):
+    """Steps of several runs, each with no more doubles and slips than a rule tells."""
+    steps = []
+    for _ in range(choice.randrange(most_runs + 1)):
+        low = choice.randrange(sheets)
+        high = min(sheets - 1, low + choice.randrange(most_sheets))
+        steps += careful_steps(choice, low, high, rule)
+    return steps
